@@ -19,6 +19,11 @@ def power(n, a, e):
     return rest
 
 
+def is_least(n, a, e, primes):
+    """Whether the power of a by n to e is 1, and to e // q, for each q of these primes of e, it is not."""
+    return power(n, a, e) == 1 and all([power(n, a, e // prime) != 1 for prime in primes])
+
+
 def power_row(n, a, e):
     """The list of tuples (exponent, rest) that leads from exponent 0 to e, e from 0 on."""
     rest = 1 % n

@@ -1,4 +1,4 @@
-"""Small questions about things, which several modules ask."""
+"""Small questions about things and papers, which several modules ask."""
 
 
 def is_whole(thing):
@@ -9,3 +9,13 @@ def is_whole(thing):
 def is_tuple_of(thing, many):
     """Whether it is a tuple of so many things."""
     return isinstance(thing, tuple) and len(thing) == many
+
+
+def primes_in(parts):
+    """The primes of a parting paper, or of an order paper's parts, rising."""
+    return [row[0][0] for row in parts]
+
+
+def parting_in(parts):
+    """The parting that a parting paper bears: tuples (prime, many)."""
+    return [(row[0][0], row[1]) for row in parts]

@@ -1,6 +1,7 @@
 """What several tests use: things of every kind, things that are bent at one place, a bound on waiting."""
 
 import contextlib
+import math
 import signal
 
 SIXTY = 10 ** 60 - 1
@@ -82,3 +83,53 @@ def is_plain(thing):
 def is_prime(n):
     """By the words of point 10, but for going on behind the root."""
     return n >= 2 and all(n % d for d in range(2, min(n, int(n ** 0.5) + 2)))
+
+
+def is_right_prime_paper(thing):
+    """Point 13, word by word."""
+    if not (type(thing) is tuple and len(thing) == 3):
+        return False
+    p, full, parts = thing
+    return (
+        type(p) is int and type(full) is int and p >= 2 and 1 <= full <= p - 1
+        and is_right_parting_paper(p - 1, parts)
+        and pow(full, p - 1, p) == 1
+        and all(pow(full, (p - 1) // row[0][0], p) != 1 for row in parts)
+    )
+
+
+def is_right_parting_paper(n, thing):
+    """Point 14, word by word."""
+    return n >= 1 and type(thing) is tuple and are_right_rows(n, thing, 2)
+
+
+def is_right_order_paper(n, a, thing):
+    """Point 17, word by word."""
+    if not (type(thing) is tuple and len(thing) == 2):
+        return False
+    e, parts = thing
+    return (
+        type(e) is int and e >= 1 and type(parts) is tuple and are_right_rows(e, parts, 3)
+        and pow(a, e, n) == 1
+        and all(type(rest) is int and rest != 1 and rest == pow(a, e // paper[0], n) for paper, _, rest in parts)
+    )
+
+
+def are_right_rows(n, rows, width):
+    if not all(type(row) is tuple and len(row) == width and is_right_prime_paper(row[0]) for row in rows):
+        return False
+    # A many above the bits of n is too great by far, and its power takes long to make.
+    if not all(type(row[1]) is int and 1 <= row[1] <= n.bit_length() for row in rows):
+        return False
+    primes = [row[0][0] for row in rows]
+    return primes == sorted(set(primes)) and math.prod(row[0][0] ** row[1] for row in rows) == n
+
+
+def order_by_hand(n, a):
+    """The order of a by n, by going through all powers; None where there is none."""
+    rest, e = a % n, 1
+    while rest != 1:
+        rest, e = rest * a % n, e + 1
+        if e > n:
+            return None
+    return e

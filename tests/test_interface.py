@@ -11,6 +11,17 @@ DEFS = {
         "primes_to": ["n"], "least_divisor": ["n"], "parted": ["n"],
         "whole_of": ["parting"], "divisors": ["parting"], "coprimes": ["parting"],
     },
+    "primepapers": {"prime_paper": ["n"], "parting_paper": ["n"]},
+    "lowchecks": {
+        "is_prime_paper": ["thing"], "is_parting_paper": ["n", "thing"], "is_order_paper": ["n", "a", "thing"],
+        "is_order": ["paper", "a", "e"],
+    },
+    "orders": {
+        "order_from": ["n", "a", "parts"], "order": ["paper", "a"], "orders_by": ["paper"], "of_order": ["paper", "d"],
+    },
+    "fulls": {
+        "is_full": ["paper", "a"], "full_from": ["paper", "a"], "fulls": ["paper", "many"], "how_many_full": ["paper"],
+    },
 }
 
 
