@@ -1,5 +1,6 @@
 """Points 13 to 15 and 17: the readers of papers let by what is right, and nothing else."""
 
+import copy
 import unittest
 
 from rootprime.lowchecks import is_order, is_order_paper, is_parting_paper, is_prime_paper
@@ -213,6 +214,17 @@ class IsPrimePaper(unittest.TestCase):
                 p = 2 * p + 1
                 self.assertIs(is_prime_paper(prime_paper(p)), True)
             self.assertIs(is_prime_paper(with_paper((2, 1, ((),)), 2, prime_paper(p))), False)
+
+
+class NothingIsChanged(unittest.TestCase):
+
+    def test_lists_that_are_handed_in(self):
+        for thing in ([2, 1, []], (5, 2, [[[2, 1, []], 2]]), [TWO, 1], [[TWO, 1], [THREE, 1]], (6, [[TWO, 1, [6]]])):
+            held = copy.deepcopy(thing)
+            self.assertIs(is_prime_paper(thing), False)
+            self.assertIs(is_parting_paper(6, thing), False)
+            self.assertIs(is_order_paper(7, 3, thing), False)
+            self.assertEqual(thing, held)
 
 
 class IsPartingPaper(unittest.TestCase):
