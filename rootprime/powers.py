@@ -1,7 +1,7 @@
 """Stage 2: powers by a number, and the row of squares by which one is reckoned."""
 
 from rootprime.rests import inverse
-from rootprime.things import is_tuple_of, is_whole
+from rootprime.things import is_just
 
 
 def power(n, a, e):
@@ -48,12 +48,4 @@ def exponents_to(e):
 
 def is_power_row(n, a, e, thing):
     """Whether the thing is the row of the power of a by n to e."""
-    # True == 1, so the kinds are looked at ahead of the values.
-    if not isinstance(thing, list) or not all([is_pair(row) for row in thing]):
-        return False
-    return thing == power_row(n, a, e)
-
-
-def is_pair(thing):
-    """Whether the thing is a tuple of two whole numbers."""
-    return is_tuple_of(thing, 2) and is_whole(thing[0]) and is_whole(thing[1])
+    return is_just(thing, power_row(n, a, e))

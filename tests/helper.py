@@ -1,8 +1,11 @@
 """What several tests use: things of every kind, things that are bent at one place, a bound on waiting."""
 
 import contextlib
+import itertools
 import math
 import signal
+
+from rootprime.primepapers import prime_paper
 
 SIXTY = 10 ** 60 - 1
 GREAT = (SIXTY, -SIXTY, 10 ** 59, 314159265358979323846264338327950288419716939937510582097494)
@@ -85,6 +88,11 @@ def is_prime(n):
     return n >= 2 and all(n % d for d in range(2, min(n, int(n ** 0.5) + 2)))
 
 
+SMALL_PRIMES = [n for n in range(2, 130) if is_prime(n)]
+# p - 1 has a great prime in the first two, a great power of 2 in some, many small primes in the last two.
+GREAT_PRIMES = (71850239, 999999929, 999999937, 469762049, 998244353, 754974721, 367567201, 892371481)
+
+
 def is_right_prime_paper(thing):
     """Point 13, word by word."""
     if not (type(thing) is tuple and len(thing) == 3):
@@ -133,3 +141,165 @@ def order_by_hand(n, a):
         if e > n:
             return None
     return e
+
+
+def factors(n):
+    """The parting of n, by going through all numbers."""
+    found, left, q = [], n, 2
+    while left > 1:
+        if q * q > left:
+            q = left
+        many = 0
+        while left % q == 0:
+            left, many = left // q, many + 1
+        if many:
+            found.append((q, many))
+        q += 1
+    return found
+
+
+def other_papers(p):
+    """The prime papers of a small p with each of its full numbers."""
+    paper = prime_paper(p)
+    return [(p, full, paper[2]) for full in range(1, p) if order_by_hand(p, full) == p - 1]
+
+
+def paper_above(p, parting):
+    """A prime paper of a prime of any size, from the parting of p - 1 into primes up to 10 ** 9."""
+    full = 2
+    while any(pow(full, (p - 1) // q, p) == 1 for q, _ in parting):
+        full += 1
+    return (p, full, tuple((prime_paper(q), many) for q, many in parting))
+
+
+# Papers of primes above 10 ** 9.
+PAPERS_ABOVE = (
+    paper_above(10 ** 9 + 7, ((2, 1), (500000003, 1))),
+    paper_above(2 ** 61 - 1, ((2, 1), (3, 2), (5, 2), (7, 1), (11, 1), (13, 1), (31, 1), (41, 1), (61, 1), (151, 1),
+                              (331, 1), (1321, 1))),
+    paper_above(3 * 2 ** 189 + 1, ((2, 189), (3, 1))),
+)
+
+
+def papers_of(primes):
+    return [prime_paper(p) for p in primes]
+
+
+def alike(primes, numbers):
+    """The number that is alike, by each of the primes, with the number beside it."""
+    whole = math.prod(primes)
+    return sum(number * (whole // p) * pow(whole // p, -1, p) for p, number in zip(primes, numbers)) % whole
+
+
+def roots_by_hand(p, k, a):
+    """Point 23: by going through all numbers."""
+    return [x for x in range(p) if (pow(x, k, p) - a) % p == 0]
+
+
+def told_roots(p, k, a):
+    """All that point 24 lets be told of a small p; nothing where it is refused."""
+    found = roots_by_hand(p, k, a)
+    d = math.gcd(k, p - 1)
+    e = (p - 1) // d
+    if a % p == 0:
+        return [(found, ("nought",))]
+    if not found:
+        return [(found, ("none", e, pow(a, e, p)))]
+    if d > 400:
+        return []
+    return [(found, ("turned", found[0], turn)) for turn in range(1, p) if order_by_hand(p, turn) == d]
+
+
+def which_by_hand(p, b, a):
+    """The least x such that b's power to x is a by p, by going through all powers; None where there is none."""
+    for x in range(p):
+        if (pow(b, x, p) - a) % p == 0:
+            return x
+    return None
+
+
+def told_which(p, b, a):
+    """What point 26 tells, or would tell but for TooFar; p divides neither b nor a."""
+    e = order_by_hand(p, b)
+    x = which_by_hand(p, b, a)
+    if x is None:
+        return (None, ("none", e, pow(a, e, p)))
+    return (x, ("is", e, tuple((q, tuple(x // q ** n % q for n in range(many))) for q, many in factors(e))))
+
+
+def told_roots_of(primes, k, a):
+    """All that point 33 lets of what 31 tells, of small primes; nothing where it is refused."""
+    rows = [told_roots(p, k, a) for p in primes]
+    nones = [(n, row[0][1]) for n, row in enumerate(rows) if row and row[0][1][0] == "none"]
+    if nones:
+        return [([], ("none", n) + shown[1:]) for n, shown in nones]
+    many = math.prod(1 if a % p == 0 else math.gcd(k, p - 1) for p in primes)
+    if many > 400:
+        return []
+    found = [x for x in range(math.prod(primes)) if all((pow(x, k, p) - a) % p == 0 for p in primes)]
+    return [(found, ("by", tuple(shown))) for shown in itertools.product(*[[one[1] for one in row] for row in rows])]
+
+
+def told_which_of(primes, b, a):
+    """All that point 33 lets of what 32 tells, of small primes; nothing where it is refused with Nought."""
+    if any(a % p == 0 or b % p == 0 for p in primes):
+        return []
+    places = [(order_by_hand(p, b), which_by_hand(p, b, a)) for p in primes]
+    told = [(None, ("none", n, e, pow(a, e, primes[n]))) for n, (e, y) in enumerate(places) if y is None]
+    for (i, one), (j, other) in itertools.combinations(enumerate(places), 2):
+        if one[1] is not None and other[1] is not None and (one[1] - other[1]) % math.gcd(one[0], other[0]):
+            told.append((None, ("apart", i, j, one, other)))
+    if not told:
+        xs = range(math.lcm(*[e for e, _ in places]))
+        told = [(next(x for x in xs if all((x - y) % e == 0 for e, y in places)), ("by", tuple(places)))]
+    return told
+
+
+def is_one_of(thing, rights):
+    """Whether the thing is one of those that are right, in its kinds too: a truth isn't written like a number."""
+    return repr(thing) in [repr(right) for right in rights]
+
+
+class KeptByHand:
+    """What 27, 38 and 39 say of a Kept, word by word."""
+
+    def __init__(self, most):
+        self.most, self.steps, self.tables = most, 0, []
+
+    def ask(self, p, b, a):
+        """A question of 26; what is refused, or told with none, counts and uses nothing."""
+        if a % p and b % p:
+            parting = factors(p - 1)
+            e = p - 1
+            for q, many in parting:
+                for _ in range(many):
+                    e = e // q if pow(b, e // q, p) == 1 else e
+            primes = [(q, many) for q, many in factors(e)]
+            if pow(a, e, p) == 1 and all(q <= 10 ** 6 for q, _ in primes):
+                for q, many in primes:
+                    self.seek(p, b, a, e, q, many)
+        return self
+
+    def seek(self, p, b, a, e, q, many):
+        w, m = pow(b, e // q, p), 1
+        while m * m < q:
+            m += 1
+        small = [pow(w, j, p) for j in range(m)]
+        self.use((p, q, w), m)
+        y, back = 0, pow(pow(w, m, p), -1, p)
+        for n in range(1, many + 1):
+            great, i = pow(a * pow(pow(b, y, p), -1, p), e // q ** n, p), 0
+            self.steps += 1
+            while great not in small:
+                great, i = great * back % p, i + 1
+                self.steps += 1
+            y += (i * m + small.index(great)) * q ** (n - 1)
+
+    def use(self, table, many):
+        if table in self.tables:
+            self.tables.remove(table)
+        else:
+            self.steps += many
+        self.tables.append(table)
+        if len(self.tables) > self.most:
+            self.tables.pop(0)

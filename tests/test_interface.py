@@ -22,7 +22,20 @@ DEFS = {
     "fulls": {
         "is_full": ["paper", "a"], "full_from": ["paper", "a"], "fulls": ["paper", "many"], "how_many_full": ["paper"],
     },
+    "squares": {"square_roots": ["paper", "a"], "no_square": ["paper", "a"], "root_walk": ["paper", "a"]},
+    "roots": {"roots": ["paper", "k", "a"]},
+    "whichpower": {"which": ["paper", "b", "a", "kept"]},
+    "upchecks": {"shows_roots": ["paper", "k", "a", "thing"], "shows_which": ["paper", "b", "a", "thing"]},
+    "together": {"put_together": ["places"], "taken_apart": ["number", "moduli"]},
+    "manyprimes": {
+        "order_of": ["papers", "a"], "roots_of": ["papers", "k", "a"], "which_of": ["papers", "b", "a", "kept"],
+    },
+    "morechecks": {
+        "shows_roots_of": ["papers", "k", "a", "thing"], "shows_which_of": ["papers", "b", "a", "thing"],
+        "shows_squares": ["n", "parts", "thing"],
+    },
 }
+CLASSES = {"kept": {"Kept": {"__init__": ["self", "most"], "steps": ["self"], "tables": ["self"]}}}
 
 
 class Interface(unittest.TestCase):
@@ -31,9 +44,22 @@ class Interface(unittest.TestCase):
         for module, defs in DEFS.items():
             drawn = importlib.import_module(f"rootprime.{module}")
             for name, names in defs.items():
-                told = inspect.signature(getattr(drawn, name)).parameters
-                self.assertEqual(list(told), names, (module, name))
-                self.assertTrue(all(one.default is inspect.Parameter.empty for one in told.values()), name)
+                self.look(getattr(drawn, name), names)
+
+    def test_classes(self):
+        for module, classes in CLASSES.items():
+            drawn = importlib.import_module(f"rootprime.{module}")
+            for name, methods in classes.items():
+                for method, names in methods.items():
+                    self.look(getattr(getattr(drawn, name), method), names)
+
+    def look(self, told, names):
+        """The arguments are those, in their order, handed in by their places; kept alone may be left out."""
+        parameters = inspect.signature(told).parameters
+        self.assertEqual(list(parameters), names, told)
+        for name, one in parameters.items():
+            self.assertIs(one.kind, inspect.Parameter.POSITIONAL_OR_KEYWORD, told)
+            self.assertIs(one.default, None if name == "kept" else inspect.Parameter.empty, told)
 
 
 if __name__ == "__main__":
