@@ -1,12 +1,11 @@
 """Stages 10 and 11: the readers of what is told by several primes, and of sums of two squares."""
 
 from rootprime.lowchecks import are_prime_papers, is_parting_paper
-from rootprime.things import MOST_TOLD, is_just, is_pair, is_tuple_of, is_whole, parting_in
+from rootprime.things import MOST_PRIMES, MOST_TOLD, is_just, is_pair, is_tuple_of, is_whole, parting_in
 from rootprime.together import put_together
 from rootprime.upchecks import are_all_roots, is_shown_by, is_which, shows_roots, shows_which
 
-# How many primes are taken together at most, and the greatest number whose sums of two squares are read.
-MOST_PRIMES = 5
+# The greatest number whose sums of two squares are read.
 GREATEST_SUM = 10 ** 18
 
 

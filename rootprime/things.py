@@ -1,7 +1,8 @@
 """Small questions about things and papers, which several modules ask."""
 
-# How many roots, pairs or powers are told at most.
+# How many roots, pairs or powers are told at most, and how many primes are taken together.
 MOST_TOLD = 400
+MOST_PRIMES = 5
 
 
 def is_whole(thing):

@@ -260,6 +260,43 @@ def is_one_of(thing, rights):
     return repr(thing) in [repr(right) for right in rights]
 
 
+def squares_by_hand(n):
+    """All (x, y), x not above y, whose squares come to n; n isn't great."""
+    pairs = [(x, math.isqrt(n - x * x)) for x in range(math.isqrt(n // 2) + 1)]
+    return [(x, y) for x, y in pairs if x * x + y * y == n]
+
+
+def squares_by_product(parting):
+    """The same of a great n: sums of two squares are multiplied, each two in both ways."""
+    pairs = {(0, 1)}
+    for q, many in parting:
+        for _ in range(many if q % 4 < 3 else many // 2):
+            u, v = squares_by_hand(q)[0] if q % 4 < 3 else (0, q)
+            pairs = {tuple(sorted(pair)) for x, y in pairs
+                     for pair in ((abs(x * u - y * v), x * v + y * u), (x * u + y * v, abs(x * v - y * u)))}
+    return sorted(pairs)
+
+
+def told_squares(n):
+    """What 35 tells, of an n that isn't great."""
+    threes = [q for q, many in factors(n) if q % 4 == 3 and many % 2]
+    pairs = squares_by_hand(n)
+    return ([], ("three", threes[0])) if threes else (pairs, ("all", len(pairs)))
+
+
+def parts_of(parting):
+    return tuple((prime_paper(q), many) for q, many in parting)
+
+
+# Four hundred pairs, and five more.
+JUST_MOST = ((5, 4), (13, 4), (17, 1), (29, 1), (37, 1), (41, 1), (53, 1))
+TOO_MANY = ((5, 4), (13, 2), (17, 2), (29, 2), (37, 2), (41, 1))
+
+
+def number_of(parting):
+    return math.prod(q ** many for q, many in parting)
+
+
 class KeptByHand:
     """What 27, 38 and 39 say of a Kept, word by word."""
 

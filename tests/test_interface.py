@@ -34,6 +34,9 @@ DEFS = {
         "shows_roots_of": ["papers", "k", "a", "thing"], "shows_which_of": ["papers", "b", "a", "thing"],
         "shows_squares": ["n", "parts", "thing"],
     },
+    "twosquares": {"two_squares": ["paper"], "all_squares": ["parts"]},
+    "powertables": {"powers_of": ["paper", "b"], "places_of": ["paper", "b"]},
+    "papertexts": {"show": ["thing"], "read": ["text"]},
 }
 CLASSES = {"kept": {"Kept": {"__init__": ["self", "most"], "steps": ["self"], "tables": ["self"]}}}
 

@@ -9,8 +9,9 @@ from rootprime.manyprimes import roots_of, which_of
 from rootprime.morechecks import shows_roots_of, shows_squares, shows_which_of
 from rootprime.primepapers import parting_paper, prime_paper
 from tests.helper import (
-    GREAT, GREAT_PRIMES, PAPERS_ABOVE, SIXTY, alike, bends, every_kind, factors, is_one_of, is_right_parting_paper,
-    is_right_prime_paper, other_papers, paper_above, papers_of, soon, told_roots_of, told_which_of,
+    GREAT, GREAT_PRIMES, JUST_MOST, PAPERS_ABOVE, SIXTY, TOO_MANY, alike, bends, every_kind, factors, is_one_of,
+    is_right_parting_paper, is_right_prime_paper, number_of, other_papers, paper_above, papers_of, parts_of, soon,
+    squares_by_product, told_roots_of, told_squares, told_which_of,
 )
 
 SOME = [[2], [3], [7], [2, 3], [2, 31], [5, 7], [7, 13], [2, 3, 5], [3, 7, 13], [2, 3, 5, 7], [2, 3, 5, 7, 11]]
@@ -363,43 +364,6 @@ class ShowsWhichOf(unittest.TestCase):
             before = copy.deepcopy((papers, told))
             shows_which_of(papers, 3, a, told)
             self.assertEqual((papers, told), before)
-
-
-def squares_by_hand(n):
-    """All (x, y), x not above y, whose squares come to n; n isn't great."""
-    pairs = [(x, math.isqrt(n - x * x)) for x in range(math.isqrt(n // 2) + 1)]
-    return [(x, y) for x, y in pairs if x * x + y * y == n]
-
-
-def squares_by_product(parting):
-    """The same of a great n: sums of two squares are multiplied, each two in both ways."""
-    pairs = {(0, 1)}
-    for q, many in parting:
-        for _ in range(many if q % 4 < 3 else many // 2):
-            u, v = squares_by_hand(q)[0] if q % 4 < 3 else (0, q)
-            pairs = {tuple(sorted(pair)) for x, y in pairs
-                     for pair in ((abs(x * u - y * v), x * v + y * u), (x * u + y * v, abs(x * v - y * u)))}
-    return sorted(pairs)
-
-
-def told_squares(n):
-    """What 35 tells, of an n that isn't great."""
-    threes = [q for q, many in factors(n) if q % 4 == 3 and many % 2]
-    pairs = squares_by_hand(n)
-    return ([], ("three", threes[0])) if threes else (pairs, ("all", len(pairs)))
-
-
-def parts_of(parting):
-    return tuple((prime_paper(q), many) for q, many in parting)
-
-
-# Four hundred pairs, and five more.
-JUST_MOST = ((5, 4), (13, 4), (17, 1), (29, 1), (37, 1), (41, 1), (53, 1))
-TOO_MANY = ((5, 4), (13, 2), (17, 2), (29, 2), (37, 2), (41, 1))
-
-
-def number_of(parting):
-    return math.prod(q ** many for q, many in parting)
 
 
 class ShowsSquares(unittest.TestCase):
