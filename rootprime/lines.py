@@ -99,3 +99,18 @@ def parsed(line):
 def numbers_in(words):
     """The tuple of the numbers that the words are the NUMBERs of."""
     return tuple([number_in(word) for word in words])
+
+
+def written(numbers):
+    """The numbers, parted by blanks; none where there are none."""
+    return " ".join([str(number) for number in numbers]) if numbers else "none"
+
+
+def written_pairs(pairs):
+    """Each pair X,Y, parted by blanks; none where there are none."""
+    return " ".join([f"{x},{y}" for x, y in pairs]) if pairs else "none"
+
+
+def written_parting(parting):
+    """Each PRIME^MANY, parted by blanks."""
+    return " ".join([f"{prime}^{many}" for prime, many in parting])

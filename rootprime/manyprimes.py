@@ -4,7 +4,7 @@ from rootprime.errors import Nought, TooMany
 from rootprime.orders import order
 from rootprime.powers import power
 from rootprime.roots import roots
-from rootprime.things import MOST_TOLD, primes_in
+from rootprime.things import MOST_TOLD, primes_in, product_of
 from rootprime.together import put_together
 from rootprime.upchecks import how_many_roots, shown_none
 from rootprime.whichpower import refuse_far, sought
@@ -17,12 +17,11 @@ def order_of(papers, a):
 
 def roots_of(papers, k, a):
     """The tuple (roots, shown): all roots of order k of a by the primes together, rising, and what shows it."""
-    many = 1
     for n, paper in enumerate(papers):
         none = shown_none(paper[0], k, a)
         if none is not None:
             return ([], ("none", n, none[1], none[2]))
-        many *= how_many_roots(paper[0], k, a)
+    many = product_of([how_many_roots(paper[0], k, a) for paper in papers])
     if many > MOST_TOLD:
         raise TooMany(many)
     told = [roots(paper, k, a) for paper in papers]

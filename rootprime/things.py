@@ -35,6 +35,14 @@ def are_just(things, rights):
     return len(things) == len(rights) and all([is_just(thing, right) for thing, right in zip(things, rights)])
 
 
+def product_of(numbers):
+    """The product of the numbers; 1 of none."""
+    product = 1
+    for number in numbers:
+        product *= number
+    return product
+
+
 def primes_in(parts):
     """The primes of a parting paper, or of an order paper's parts, rising."""
     return [row[0][0] for row in parts]

@@ -3,7 +3,7 @@
 from rootprime.lowchecks import is_order, is_prime_paper
 from rootprime.powers import power
 from rootprime.rests import divisor
-from rootprime.things import MOST_TOLD, is_just, is_pair, is_tuple_of, is_whole, primes_in
+from rootprime.things import MOST_TOLD, is_just, is_pair, is_tuple_of, is_whole, primes_in, product_of
 
 
 def shows_roots(paper, k, a, thing):
@@ -33,15 +33,13 @@ def shown_none(p, k, a):
 
 def are_all_roots(primes, k, a, found):
     """Whether it is the rising list of all roots of order k of a by the primes, and these aren't too many."""
-    many = 1
-    whole = 1
-    for p in primes:
-        many *= how_many_roots(p, k, a)
-        whole *= p
+    many = product_of([how_many_roots(p, k, a) for p in primes])
     # So many unlike roots are all of them: nothing needs to be found anew.
     if many > MOST_TOLD or not isinstance(found, list) or len(found) != many:
         return False
-    return are_rising_below(whole, found) and all([is_root(p, k, a, root) for p in primes for root in found])
+    if not are_rising_below(product_of(primes), found):
+        return False
+    return all([is_root(p, k, a, root) for p in primes for root in found])
 
 
 def are_rising_below(whole, numbers):

@@ -1,8 +1,10 @@
 """What several tests use: things of every kind, things that are bent at one place, a bound on waiting."""
 
+import ast
 import contextlib
 import itertools
 import math
+import re
 import signal
 
 from rootprime.primepapers import prime_paper
@@ -297,6 +299,36 @@ def number_of(parting):
     return math.prod(q ** many for q, many in parting)
 
 
+NUMBER = r"(?:0|-?[1-9][0-9]{0,59})"
+ATOM = rf"(?:{NUMBER}|[a-z]{{1,8}}|-)"
+
+
+def is_text(text):
+    """Whether it is the text of a thing: brackets are taken away from within, all of one depth at once."""
+    if not re.fullmatch(r"[-0-9a-z() ]*", text):
+        return False
+    left = re.sub(rf"(?<![^( ]){ATOM}(?![^) ])", "X", text)
+    for depth in range(81):
+        if left in ("X", "T"):
+            return True
+        left = re.sub(r"\(([XT]( [XT])*)?\)", "T", left)
+    return False
+
+
+def thing_of(text):
+    """The thing whose text it is, by way of how Python writes it."""
+    left = re.sub(r"[a-z]+", lambda found: f"'{found[0]}'", text)
+    left = re.sub(r"-(?![0-9])", "None", left)
+    return ast.literal_eval(re.sub(r"(?<!\()\)", ",)", left.replace(" ", ", ")))
+
+
+def text_of(thing):
+    """The text of a thing, by the words of point 43."""
+    if type(thing) in (tuple, list):
+        return f"({' '.join(text_of(within) for within in thing)})"
+    return "-" if thing is None else str(thing)
+
+
 class KeptByHand:
     """What 27, 38 and 39 say of a Kept, word by word."""
 
@@ -340,3 +372,92 @@ class KeptByHand:
         self.tables.append(table)
         if len(self.tables) > self.most:
             self.tables.pop(0)
+
+
+# What stands behind a question's first word: N, A, E, K, and whatever else is just so.
+FORMS = {"prime": "N", "part": "N", "squares": "N", "order": "A by PRIMES", "power": "A E by PRIMES",
+         "roots": "K A by PRIMES", "which": "A A by PRIMES"}
+LEAST = {"N": 2, "K": 1, "E": 0, "A": -SIXTY}
+MOST = {"N": 10 ** 9, "K": 10 ** 9, "E": SIXTY, "A": SIXTY}
+
+
+def is_right_word(form, word, sure):
+    """Point 40 of one word; sure says whether PRIMES are looked at."""
+    if form == "by":
+        return word == "by"
+    if form == "PRIMES":
+        if not re.fullmatch(rf"{NUMBER}(\*{NUMBER}){{0,4}}", word):
+            return False
+        primes = [int(part) for part in word.split("*")]
+        right = primes == sorted(set(primes)) and all(2 <= p <= 10 ** 9 for p in primes)
+        return right and (not sure or all(is_prime(p) for p in primes))
+    return re.fullmatch(NUMBER, word) is not None and LEAST[form] <= int(word) <= MOST[form]
+
+
+def wrong_word_by_hand(line, sure=True):
+    """The number of the first word that isn't so, by point 40; None where the line is a question."""
+    words = line.split(" ")
+    if words[0] not in FORMS:
+        return 0
+    forms = FORMS[words[0]].split(" ")
+    for n in range(1, max(len(words), len(forms) + 1)):
+        if n >= len(words) or n > len(forms) or not is_right_word(forms[n - 1], words[n], sure):
+            return n
+    return None
+
+
+def taken(line):
+    """The first word, the NUMBERs and the PRIMES of a right line."""
+    ahead, _, primes = line.partition(" by ")
+    kind, *numbers = ahead.split(" ")
+    return kind, [int(number) for number in numbers], [int(p) for p in primes.split("*") if p]
+
+
+def let_rows(line):
+    """All (told, thing) that the looker lets by of a question about small numbers, those first that 41 and 42 tell."""
+    kind, numbers, primes = taken(line)
+    deeds = {"prime": let_prime, "part": let_part, "squares": let_squares, "order": let_order, "power": let_power,
+             "roots": let_roots, "which": let_which}
+    return deeds[kind](primes, *numbers)
+
+
+def let_prime(_, n):
+    return [("yes", ())] if is_prime(n) else [("no", (d,)) for d in range(2, n) if n % d == 0]
+
+
+def let_part(_, n):
+    parting = factors(n)
+    return [(" ".join(f"{q}^{many}" for q, many in parting), tuple(many for _, many in parting))]
+
+
+def let_squares(_, n):
+    pairs, shown = told_squares(n)
+    return [(" ".join(f"{x},{y}" for x, y in pairs) or "none", (tuple(many for _, many in factors(n)), shown))]
+
+
+def let_order(primes, a):
+    if any(a % p == 0 for p in primes):
+        return [("nought", ())]
+    orders = tuple(order_by_hand(p, a) for p in primes)
+    return [(str(math.lcm(*orders)), orders)]
+
+
+def let_power(primes, a, e):
+    return [(str(pow(a, e, math.prod(primes))), ())]
+
+
+def let_roots(primes, k, a):
+    rows = told_roots_of(primes, k, a)
+    many = math.prod(1 if a % p == 0 else math.gcd(k, p - 1) for p in primes)
+    return [(" ".join(str(x) for x in found) or "none", shown) for found, shown in rows] or [(f"many {many}", ())]
+
+
+def let_which(primes, b, a):
+    rows = told_which_of(primes, b, a)
+    return [("none" if x is None else str(x), shown) for x, shown in rows] or [("nought", ())]
+
+
+def papers_shown(line, told):
+    """The papers that 42 tells of a question's line."""
+    kind, numbers, primes = taken(line)
+    return tuple(papers_of(primes or [q for q, _ in factors(numbers[0]) if told != "no"]))

@@ -37,8 +37,14 @@ DEFS = {
     "twosquares": {"two_squares": ["paper"], "all_squares": ["parts"]},
     "powertables": {"powers_of": ["paper", "b"], "places_of": ["paper", "b"]},
     "papertexts": {"show": ["thing"], "read": ["text"]},
+    "books": {"read_book": ["text"], "answers": ["text", "kept"]},
+    "looker": {"first_wrong": ["answers"]},
 }
-CLASSES = {"kept": {"Kept": {"__init__": ["self", "most"], "steps": ["self"], "tables": ["self"]}}}
+CLASSES = {
+    "kept": {"Kept": {"__init__": ["self", "most"], "steps": ["self"], "tables": ["self"]}},
+    "questions": {"Question": {"asked": ["self"], "answer": ["self", "kept"]}},
+    "desk": {"Desk": {"__init__": ["self"], "say": ["self", "row"]}},
+}
 
 
 class Interface(unittest.TestCase):

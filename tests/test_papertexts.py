@@ -2,15 +2,12 @@
 
 import copy
 import itertools
-import re
 import unittest
 
 from rootprime.errors import NoText
 from rootprime.papertexts import read, show
 from rootprime.primepapers import prime_paper
-from tests.helper import GREAT, GREAT_PRIMES, SIXTY, papers_of, soon
-
-ATOM = r"(?:0|-?[1-9][0-9]{0,59}|[a-z]{1,8}|-)"
+from tests.helper import GREAT, GREAT_PRIMES, SIXTY, is_text, papers_of, soon, text_of, thing_of
 
 # Each with its text.
 THINGS = [
@@ -22,18 +19,6 @@ THINGS = [
     (("by", ((4, 3), (6, 3))), "(by ((4 3) (6 3)))"), ((2, 1, ()), "(2 1 ())"),
     ((7, 3, (((2, 1, ()), 1), ((3, 2, (((2, 1, ()), 1),)), 1))), "(7 3 (((2 1 ()) 1) ((3 2 (((2 1 ()) 1))) 1)))"),
 ]
-
-
-def is_text(text):
-    """Whether it is the text of a thing: brackets are taken away from within, all of one depth at once."""
-    if not re.fullmatch(r"[-0-9a-z() ]*", text):
-        return False
-    left = re.sub(rf"(?<![^( ]){ATOM}(?![^) ])", "X", text)
-    for depth in range(81):
-        if left in ("X", "T"):
-            return True
-        left = re.sub(r"\(([XT]( [XT])*)?\)", "T", left)
-    return False
 
 
 def wrong_sign(text):
@@ -58,6 +43,7 @@ class Show(unittest.TestCase):
         for thing, text in THINGS:
             self.assertEqual(show(thing), text)
             self.assertIs(type(show(thing)), str)
+            self.assertEqual(text_of(thing), text)
 
     def test_lists(self):
         self.assertEqual(show([]), "()")
@@ -93,6 +79,7 @@ class Read(unittest.TestCase):
         """It is read, and written again as it was, or refused with the place of the point's own words."""
         right = wrong_sign(text)
         if right is None:
+            self.assertEqual(repr(read(text)), repr(thing_of(text)))
             self.assertEqual(show(read(text)), text)
             return
         with self.assertRaises(NoText, msg=text) as caught:
