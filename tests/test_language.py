@@ -210,6 +210,37 @@ class Language(unittest.TestCase):
                     self.assertIn(node.attr, own | given | METHODS, (file.name, node.lineno))
                     self.assertNotIn(node.attr, UNUSED, (file.name, node.lineno))
 
+    def test_classes_are_not_handed_on(self):
+        own = {row.name for _, _, tree in trees() for row in tree.body if isinstance(row, ast.ClassDef)}
+        for file, _, tree in trees():
+            let = set()
+            for node in ast.walk(tree):
+                if isinstance(node, ast.Call):
+                    let.add(node.func)
+                    if isinstance(node.func, ast.Name) and node.func.id == "isinstance":
+                        let.add(node.args[1])
+                elif isinstance(node, ast.ClassDef):
+                    let.update(node.bases)
+                elif isinstance(node, ast.ExceptHandler):
+                    let.update(node.type.elts if isinstance(node.type, ast.Tuple) else [node.type])
+            for node in ast.walk(tree):
+                if isinstance(node, ast.Name) and node.id in own:
+                    self.assertIn(node, let, (file.name, node.lineno))
+
+    def test_lists_of_the_top_are_only_read(self):
+        for file, _, tree in trees():
+            kept = {target.id for row in tree.body if isinstance(row, ast.Assign) for target in row.targets
+                    if isinstance(row.value, (ast.List, ast.Dict))}
+            let = set()
+            for node in ast.walk(tree):
+                if isinstance(node, ast.Subscript) and isinstance(node.ctx, ast.Load):
+                    let.add(node.value)
+                elif isinstance(node, ast.Compare):
+                    let.update(node.comparators)
+            for node in ast.walk(tree):
+                if isinstance(node, ast.Name) and isinstance(node.ctx, ast.Load) and node.id in kept:
+                    self.assertIn(node, let, (file.name, node.lineno))
+
     def test_operators(self):
         for file, _, tree in trees():
             for node in ast.walk(tree):
